@@ -1,0 +1,66 @@
+"""The first section of the interface: names, arguments, and the file of each function and class."""
+
+import importlib
+import inspect
+import unittest
+
+# For each module: its functions and classes with their arguments.
+INTERFACE = {
+    "errors": {
+        "BadPrime": "(number)",
+        "BadValue": "(value)",
+        "BadOrder": "()",
+        "BadCoins": "(due, given)",
+        "BadLots": "(first, second)",
+        "PhaseError": "(phase)",
+        "VoteError": "(voter)",
+        "TagError": "(row)",
+        "LineError": "(line)",
+    },
+    "field": {
+        "is_prime": "(number)",
+        "checked_prime": "(number)",
+        "next_prime": "(number)",
+        "total": "(prime, numbers)",
+        "power": "(prime, base, exponent)",
+        "inverse": "(prime, number)",
+    },
+    "shares": {
+        "split": "(prime, value, coins)",
+        "join": "(prime, pieces)",
+        "fresh_table": "(prime, votes, coins)",
+        "values_of": "(prime, table)",
+        "column": "(table, mixer)",
+        "changed_table": "(prime, table, mixer, differences)",
+    },
+    "perms": {
+        "is_order": "(order)",
+        "checked_order": "(order)",
+        "moved": "(rows, order)",
+        "undone": "(order)",
+        "chained": "(first, second)",
+        "factorial": "(many)",
+        "order_of_number": "(many, number)",
+        "order_number": "(order)",
+        "matching": "(old, new)",
+    },
+}
+
+
+class InterfaceTest(unittest.TestCase):
+
+    def test_names_and_arguments(self):
+        for name, things in INTERFACE.items():
+            module = importlib.import_module("veilcount." + name)
+            for thing, arguments in things.items():
+                with self.subTest(module=name, thing=thing):
+                    found = getattr(module, thing)
+                    self.assertEqual(str(inspect.signature(found)), arguments)
+                    self.assertEqual(found.__module__, "veilcount." + name)
+
+    def test_veil_error_is_defined_in_its_file(self):
+        self.assertEqual(importlib.import_module("veilcount.errors").VeilError.__module__, "veilcount.errors")
+
+
+if __name__ == "__main__":
+    unittest.main()
