@@ -44,6 +44,43 @@ INTERFACE = {
         "order_number": "(order)",
         "matching": "(old, new)",
     },
+    "lots": {
+        "is_lot": "(lot, mixers)",
+        "holders": "(lot, mixers)",
+        "cover": "(one, other, mixers)",
+        "covering_pair": "(family, mixers)",
+        "checked_family": "(family, mixers)",
+        "contains": "(lot, part)",
+        "stage_of": "(lot, family)",
+        "is_inside": "(lot, family)",
+        "greatest": "(family)",
+        "lots_of": "(mixers, size)",
+    },
+    "coins": {
+        "StageCoins": "(gather, order, spread)",
+        "RunCoins": "(votes, stages)",
+        "stage_size": "(mixers, lot, rows)",
+        "size": "(mixers, family, rows)",
+        "coins_of": "(numbers, *, prime, mixers, family, rows)",
+        "flat": "(coins)",
+        "twin": "(coins)",
+    },
+    "stages": {
+        "StageRecord": "(holders, gathered, held, order)",
+        "outsiders": "(mixers, holders)",
+        "gathered_pieces": "(prime, table, others, coins)",
+        "held_shares": "(prime, table, holders, pieces)",
+        "spread_pieces": "(prime, ordered, many, coins)",
+        "new_table": "(prime, pieces, mixers, rows)",
+        "run_stage": "(prime, mixers, table, holders, coins)",
+    },
+    "runs": {
+        "RunRecord": "(prime, mixers, family, table)",
+        "run": "(prime, mixers, family, votes, coins)",
+        "last_table": "(record)",
+        "check_votes": "(prime, votes)",
+        "whole_order": "(record)",
+    },
 }
 
 
