@@ -112,11 +112,17 @@ class LotsTest(unittest.TestCase):
         self.assertEqual(lots_of(3, 0), [[]])
         self.assertEqual(lots_of(3, 3), [[0, 1, 2]])
         self.assertEqual(lots_of(3, 4), [])
+        self.assertEqual(lots_of(0, 0), [[]])
         self.assertEqual(lots_of(4, 2), [[0, 1], [0, 2], [0, 3], [1, 2], [1, 3], [2, 3]])
         for mixers in range(1, 6):
             for size in range(mixers + 2):
                 found = lots_of(mixers, size)
                 self.assertEqual(found, sorted(lot for lot in all_lots(mixers) if len(lot) == size))
+
+    def test_sizes_that_no_lot_has(self):
+        for mixers in range(5):
+            for size in (-1, -2, -10 ** 30, mixers + 1, mixers + 2, 10 ** 30):
+                self.assertEqual(lots_of(mixers, size), [])
 
     def test_point_3(self):
         family = [[0], [1], [0, 1]]

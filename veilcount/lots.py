@@ -81,4 +81,7 @@ def _is_outgrown(lot, family):
 
 def lots_of(mixers, size):
     """Return all lots of a size, in the order of lists."""
+    # No lot has such a size, and combinations fails for a size below 0 or far beyond the mixers.
+    if size < 0 or size > mixers:
+        return []
     return [list(lot) for lot in combinations(range(mixers), size)]
