@@ -3,7 +3,7 @@
 import unittest
 from copy import deepcopy
 
-from draws import numbers_from
+from draws import numbers_from, parts
 from veilcount.coins import RunCoins, StageCoins, coins_of, flat, size, stage_size, twin
 from veilcount.errors import BadCoins, BadOrder
 
@@ -11,11 +11,6 @@ from veilcount.errors import BadCoins, BadOrder
 SETTINGS = [(1, [], 0), (1, [], 3), (1, [[]], 0), (1, [[], []], 4), (2, [[]], 2), (2, [[0], [0]], 3),
             (3, [[0], [1], [2]], 2), (3, [[0, 2], []], 0), (3, [[0, 2]], 4), (4, [[0, 1], [], [1, 3]], 3),
             (5, [[0, 1], [2, 3], [1, 4]], 5)]
-
-
-def parts(coins):
-    """All that coins hold, as plain lists."""
-    return coins.votes, [(stage.gather, stage.order, stage.spread) for stage in coins.stages]
 
 
 def lists_in(thing):

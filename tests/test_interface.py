@@ -81,6 +81,46 @@ INTERFACE = {
         "check_votes": "(prime, votes)",
         "whole_order": "(record)",
     },
+    "views": {
+        "view": "(record, lot)",
+        "stage_view": "(stage, mixers, lot)",
+        "known_votes": "(record, one, other)",
+    },
+    "swaps": {
+        "carrier_of": "(lot, mixers)",
+        "hidden_holder": "(held, lot, carrier)",
+        "swapped": "(p, mixers, family, lot, votes, others, coins, order=None)",
+    },
+    "tags": {
+        "triple": "(p, vote, key)",
+        "passes": "(p, row)",
+        "disturbed": "(p, row, differences)",
+        "keys_that_pass": "(p, vote, differences)",
+        "run_tagged": "(p, mixers, family, rows, coins)",
+        "tagged_coins": "(coins)",
+        "orders_of": "(coins)",
+        "with_orders": "(coins, orders)",
+        "opened_rows": "(records)",
+        "failing_rows": "(p, rows)",
+        "swapped_tagged": "(p, mixers, family, lot, rows, others, coins)",
+    },
+    "ballots": {
+        "ballot_number": "(ranking)",
+        "ranking_of": "(options, number)",
+        "ballot_prime": "(options)",
+        "best_of": "(ranking, left)",
+        "is_ahead": "(ranking, option, other)",
+    },
+    "tallies": {
+        "counts": "(values, options)",
+        "leaders": "(numbers)",
+        "first_counts": "(rankings, left)",
+        "weakest": "(left, numbers)",
+        "runoff": "(rankings, options)",
+        "pairs": "(rankings, options)",
+        "beats_all": "(rankings, options)",
+        "points": "(rankings, options)",
+    },
 }
 
 

@@ -2,15 +2,11 @@
 
 import unittest
 from copy import deepcopy
-from itertools import combinations
 
+from draws import all_lots
 from veilcount.errors import BadLots
 from veilcount.lots import (checked_family, contains, cover, covering_pair, greatest, holders, is_inside, is_lot,
                             lots_of, stage_of)
-
-
-def all_lots(mixers):
-    return [list(lot) for size in range(mixers + 1) for lot in combinations(range(mixers), size)]
 
 
 class LotsTest(unittest.TestCase):

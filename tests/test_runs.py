@@ -3,8 +3,8 @@
 import unittest
 from copy import deepcopy
 
-from draws import numbers_from
-from veilcount.coins import RunCoins, StageCoins, coins_of, size
+from draws import drawn, parts, stage_fields
+from veilcount.coins import RunCoins, StageCoins
 from veilcount.errors import BadCoins, BadLots, BadOrder, BadPrime, BadValue
 from veilcount.perms import chained, moved
 from veilcount.runs import RunRecord, check_votes, last_table, run, whole_order
@@ -24,19 +24,6 @@ RUNS = [
     (101, 5, [[0, 1], [2, 3], [1, 4], [0, 4]], [100, 50, 50, 0, 7]),
     (999983, 3, [[1]], [999982, 0, 123456]),
 ]
-
-
-def drawn(prime, mixers, family, votes, seed=0):
-    numbers = numbers_from(seed, size(mixers, family, len(votes)), spread=10 ** 7)
-    return coins_of(numbers, prime=prime, mixers=mixers, family=family, rows=len(votes))
-
-
-def parts(coins):
-    return deepcopy((coins.votes, [(stage.gather, stage.order, stage.spread) for stage in coins.stages]))
-
-
-def stage_fields(stage):
-    return (stage.holders, stage.gathered, stage.held, stage.order, stage.ordered, stage.spread, stage.table)
 
 
 class RunTest(unittest.TestCase):
