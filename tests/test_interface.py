@@ -121,6 +121,29 @@ INTERFACE = {
         "beats_all": "(rankings, options)",
         "points": "(rankings, options)",
     },
+    "audit": {
+        "faults": "(record)",
+        "stage_faults": "(prime, mixers, table, stage)",
+        "blamed": "(record)",
+    },
+    "sheets": {
+        "Sheet": "(prime, mixers, family, votes, numbers)",
+        "write_sheet": "(sheet)",
+        "read_sheet": "(text)",
+        "read_number": "(word)",
+    },
+    "cheats": {
+        "changed_at": "(prime, table, changes, stage)",
+        "run_changed": "(prime, mixers, family, votes, coins, changes)",
+        "end_of": "(coins, stage, row)",
+        "shifts": "(prime, coins, changes, rows)",
+    },
+    "plans": {
+        "family_of": "(mixers, together)",
+        "guards": "(family, lot)",
+        "sent_in_stage": "(mixers, lot, rows)",
+        "sent_in_run": "(mixers, family, rows)",
+    },
 }
 
 

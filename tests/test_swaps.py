@@ -56,6 +56,11 @@ class MixersTest(unittest.TestCase):
         self.assertEqual(carrier_of([0, 1, 3], 5), 2)
         self.assertEqual(carrier_of([0, 1, 2], 4), 3)
 
+    def test_nobody_is_outside(self):
+        self.assertIsNone(carrier_of([0, 1], 2))
+        self.assertIsNone(hidden_holder([1, 2], [1, 2], 0))
+        self.assertIsNone(hidden_holder([], [1], 0))
+
     def test_the_hidden_holder_where_the_carrier_holds(self):
         self.assertEqual(hidden_holder([0, 2], [1], 0), 0)
         self.assertEqual(hidden_holder([0, 2, 3], [0, 1], 2), 2)
@@ -314,6 +319,14 @@ class ErrorsTest(unittest.TestCase):
             swapped(7, 3, [[0]], [0], [3, 6], [6, 3], coins)
         self.assertEqual((caught.exception.due, caught.exception.given), (15, 16))
         self.assertRaises(BadCoins, swapped, 7, 3, [[0], [0]], [0], [3, 6], [6, 3], drawn(7, 3, [[0]], [3, 6]))
+
+    def test_the_order_of_the_errors(self):
+        # As the interface lists them: the lot, the other votes, then what run raises.
+        none = RunCoins([], [])
+        self.assertRaises(BadLots, swapped, 8, 3, [[0]], [1], [3, 9], [3, 6], none)
+        self.assertRaises(BadOrder, swapped, 8, 3, [[0]], [0], [3, 9], [3, 6], none)
+        self.assertRaises(BadPrime, swapped, 8, 3, [[0]], [0], [3, 9], [9, 3], none)
+        self.assertRaises(BadValue, swapped, 7, 3, [[0]], [0], [3, 9], [9, 3], none)
 
 
 class CopiesTest(unittest.TestCase):

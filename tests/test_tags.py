@@ -269,6 +269,15 @@ class OtherRowsTest(unittest.TestCase):
         coins = [RunCoins([[]] * 3, [StageCoins([], [0, 1, 2], [[[]] * 3])]) for _ in range(3)]
         self.assertEqual(orders_of(swapped_tagged(7, 1, [[]], [], rows, others, coins)[2]), [[1, 0, 2]])
 
+    def test_rows_may_be_lists(self):
+        rows, others = [(3, 4, 5), (3, 2, 6)], [(3, 2, 6), (3, 4, 5)]
+        coins = three_coins(7, 3, [[0]], rows)
+        due = [parts(one) for one in swapped_tagged(7, 3, [[0]], [0], rows, others, coins)]
+        rows_as_lists, others_as_lists = [list(row) for row in rows], [list(row) for row in others]
+        for one, other in ((rows_as_lists, others_as_lists), (rows, others_as_lists), (rows_as_lists, others)):
+            found = swapped_tagged(7, 3, [[0]], [0], one, other, coins)
+            self.assertEqual([parts(one) for one in found], due)
+
     def test_made_back_they_are_the_first_coins(self):
         for prime, mixers, family, lot, rows, others, coins, found in self.swaps():
             back = swapped_tagged(prime, mixers, family, lot, others, rows, found)
@@ -280,6 +289,7 @@ class OtherRowsTest(unittest.TestCase):
         with self.assertRaises(BadLots) as caught:
             swapped_tagged(7, 3, [[0]], [1], rows, rows, coins)
         self.assertEqual((caught.exception.first, caught.exception.second), (None, None))
+        self.assertRaises(BadLots, swapped_tagged, 7, 3, [[0]], [1], rows, [], coins)
         # The columns are there in another order, but the rows are not.
         for others in ([(3, 2, 5), (3, 4, 6)], [(3, 4, 5)], [(3, 4, 5), (3, 4, 5)], [], rows + rows):
             self.assertRaises(BadOrder, swapped_tagged, 7, 3, [[0]], [0], rows, others, coins)

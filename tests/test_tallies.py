@@ -62,6 +62,7 @@ class RunoffTest(unittest.TestCase):
         self.assertEqual(weakest([0, 1, 2], [3, 1, 2]), 1)
         self.assertEqual(weakest([0, 2, 5], [3, 2, 1]), 5)
         self.assertEqual(weakest([3], [0]), 3)
+        self.assertIsNone(weakest([], []))
 
     def test_of_several_the_last_one_goes(self):
         self.assertEqual(weakest([0, 1, 2], [1, 1, 2]), 1)

@@ -24,14 +24,19 @@ class RunRecord:
 
 def run(prime, mixers, family, votes, coins):
     """Return the record of a run of votes with these coins."""
-    checked_prime(prime)
-    checked_family(family, mixers)
-    check_votes(prime, votes)
-    check_coins(coins, mixers, family, len(votes))
+    check_run(prime, mixers, family, votes, coins)
     record = RunRecord(prime, mixers, family, fresh_table(prime, votes, coins.votes))
     record.stages = _run_stages(record, coins.stages)
     record.opened = values_of(prime, last_table(record))
     return record
+
+
+def check_run(prime, mixers, family, votes, coins):
+    """Raise an error for the first of the arguments of a run that does not fit."""
+    checked_prime(prime)
+    checked_family(family, mixers)
+    check_votes(prime, votes)
+    check_coins(coins, mixers, family, len(votes))
 
 
 def _run_stages(record, coins):

@@ -40,7 +40,7 @@ def check_inside(lot, family):
 
 def exchange_of(others, votes, order):
     """Return the order that moves the other votes into the votes: the one given, or else their matching."""
-    exchange = matching(others, votes) if order is None else list(order)
+    exchange = matching(others, votes) if order is None else order
     if exchange is None or moved(others, exchange) != votes:
         raise BadOrder()
     return exchange
