@@ -43,6 +43,16 @@ def places_of(thing):
     return [found for part in thing for found in places_of(part)]
 
 
+def shares_of(record):
+    """The places of all numbers of a record but those of the orders."""
+    found = places_of(record.table) + places_of(record.opened)
+    for stage in record.stages:
+        for field in FIELDS:
+            if field != "order":
+                found += places_of(getattr(stage, field))
+    return found
+
+
 def plain_faults(record):
     """Point 30 in its own words, for lists that are orders."""
     prime, found, table = record.prime, [], record.table
@@ -85,12 +95,7 @@ class HonestTest(unittest.TestCase):
     def test_a_change_by_the_prime_is_no_fault(self):
         for prime, mixers, family, votes in RUNS:
             record = run(prime, mixers, family, votes, drawn(prime, mixers, family, votes))
-            found = places_of(record.table) + places_of(record.opened)
-            for stage in record.stages:
-                for field in FIELDS:
-                    if field != "order":
-                        found += places_of(getattr(stage, field))
-            for at, (numbers, place) in enumerate(found):
+            for at, (numbers, place) in enumerate(shares_of(record)):
                 numbers[place] += prime * (at % 5 - 2)
                 self.assertEqual(faults(record), [])
 
@@ -184,12 +189,7 @@ class OneChangeTest(unittest.TestCase):
     def test_every_number_of_every_run(self):
         for prime, mixers, family, votes in RUNS:
             record = run(prime, mixers, family, votes, drawn(prime, mixers, family, votes))
-            found = places_of(record.table) + places_of(record.opened)
-            for stage in record.stages:
-                for field in FIELDS:
-                    if field != "order":
-                        found += places_of(getattr(stage, field))
-            for numbers, place in found:
+            for numbers, place in shares_of(record):
                 numbers[place] += 1
                 self.assertNotEqual(faults(record), [])
                 self.assertEqual(faults(record), plain_faults(record))
@@ -258,13 +258,8 @@ class SeveralFaultsTest(unittest.TestCase):
     def test_several_changes_at_once(self):
         for prime, mixers, family, votes in RUNS:
             record = run(prime, mixers, family, votes, drawn(prime, mixers, family, votes))
-            found = places_of(record.table) + places_of(record.opened)
-            for stage in record.stages:
-                for field in FIELDS:
-                    if field != "order":
-                        found += places_of(getattr(stage, field))
             for step in range(1, 8):
-                for numbers, place in found[::step]:
+                for numbers, place in shares_of(record)[::step]:
                     numbers[place] = (numbers[place] + step) * 3 - 1
                 self.assertEqual(faults(record), plain_faults(record))
 
