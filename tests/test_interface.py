@@ -144,6 +144,47 @@ INTERFACE = {
         "sent_in_stage": "(mixers, lot, rows)",
         "sent_in_run": "(mixers, family, rows)",
     },
+    "stories": {
+        "kinds_of": "(votes)",
+        "story_count": "(votes)",
+        "rows_of": "(votes)",
+        "next_row": "(votes)",
+        "exchanged": "(votes, one, other)",
+        "stories": "(p, mixers, family, lot, votes, coins)",
+    },
+    "halves": {
+        "honest_claims": "(first, second)",
+        "opened_claims": "(left, right, coins)",
+        "caught": "(left, right, coins)",
+        "coins_of_number": "(rows, number)",
+        "passing_plainly": "(left, right)",
+        "passing": "(left, right)",
+        "links_of": "(left, right)",
+        "parts_of": "(links)",
+        "passing_in": "(part, links)",
+        "worlds": "(coins)",
+        "same_links": "(first, second, other_first, other_second, coins)",
+    },
+    "letters": {
+        "Setting": "(prime, mixers, family, rows)",
+        "Net": "(setting, votes, coins)",
+        "run_letters": "(setting, votes, coins, picks)",
+    },
+    "log": {
+        "read_number": "(text)",
+        "write_deed": "(deed)",
+        "read_deed": "(line)",
+        "write_log": "(deeds)",
+        "read_log": "(text)",
+    },
+}
+
+# For each class with methods: the methods with their arguments.
+METHODS = {
+    ("letters", "Net"): {
+        "deliver": "(self, place)",
+        "table": "(self)",
+    },
 }
 
 
@@ -157,6 +198,14 @@ class InterfaceTest(unittest.TestCase):
                     found = getattr(module, thing)
                     self.assertEqual(str(inspect.signature(found)), arguments)
                     self.assertEqual(found.__module__, "veilcount." + name)
+
+    def test_methods_stand_in_their_classes(self):
+        for (name, thing), methods in METHODS.items():
+            body = vars(getattr(importlib.import_module("veilcount." + name), thing))
+            for method, arguments in methods.items():
+                with self.subTest(thing=thing, method=method):
+                    self.assertIn(method, body)
+                    self.assertEqual(str(inspect.signature(body[method])), arguments)
 
     def test_veil_error_is_defined_in_its_file(self):
         self.assertEqual(importlib.import_module("veilcount.errors").VeilError.__module__, "veilcount.errors")

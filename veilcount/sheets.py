@@ -2,6 +2,7 @@
 
 from veilcount.copies import copied
 from veilcount.errors import LineError
+from veilcount.log import number_within
 
 # Which words may stand behind a word; the first line stands behind no word.
 NEXT_WORDS = {
@@ -70,8 +71,4 @@ def _fits(word, numbers):
 
 def read_number(word):
     """Return the number of a word, or None."""
-    if not word.isascii() or not word.isdigit() or len(word) > MOST_FIGURES:
-        return None
-    if word.startswith("0") and word != "0":
-        return None
-    return int(word)
+    return number_within(word, MOST_FIGURES)
