@@ -2,6 +2,7 @@
 
 import importlib
 import inspect
+import os
 import unittest
 
 # For each module: its functions and classes with their arguments.
@@ -177,6 +178,34 @@ INTERFACE = {
         "write_log": "(deeds)",
         "read_log": "(text)",
     },
+    "house": {
+        "Election": "(*, options, mixers, family, voters)",
+        "replayed": "(text, *, options, mixers, family, voters)",
+    },
+    "reports": {
+        "write_row": "(row)",
+        "write_board": "(prime, table)",
+        "read_board": "(mixers, text)",
+        "missing": "(opened, receipts)",
+    },
+    "seats": {
+        "by_averages": "(numbers, many, *, step=1)",
+        "by_remainders": "(numbers, many)",
+        "next_seat": "(numbers, seats, step)",
+        "is_greater": "(number, divisor, other, other_divisor)",
+    },
+    "margins": {
+        "strongest_other": "(numbers, option)",
+        "leads": "(numbers, option)",
+        "changes_to_lead": "(numbers, option)",
+        "margin": "(numbers)",
+    },
+    "strengths": {
+        "wins": "(rankings, options)",
+        "strengths": "(rankings, options)",
+        "strongest": "(rankings, options)",
+        "chain_of": "(rankings, options, start, end)",
+    },
 }
 
 # For each class with methods: the methods with their arguments.
@@ -185,7 +214,37 @@ METHODS = {
         "deliver": "(self, place)",
         "table": "(self)",
     },
+    ("house", "Election"): {
+        "cast": "(self, voter, ranking)",
+        "withdraw": "(self, voter)",
+        "close": "(self)",
+        "mix": "(self, numbers)",
+        "undo": "(self)",
+        "let": "(self, deed)",
+        "votes": "(self)",
+        "needed": "(self)",
+        "opened": "(self)",
+        "first_places": "(self)",
+        "runoff": "(self)",
+        "points": "(self)",
+        "beats_all": "(self)",
+        "seen_by": "(self, lot)",
+        "log": "(self)",
+    },
 }
+
+# For each class: how an object of it is made, and its fields.
+FIELDS = [
+    ("coins", "StageCoins", ([], [], []), {}, ["gather", "order", "spread"]),
+    ("coins", "RunCoins", ([], []), {}, ["votes", "stages"]),
+    ("stages", "StageRecord", ([0], [], [], []), {},
+     ["holders", "gathered", "held", "order", "ordered", "spread", "table"]),
+    ("runs", "RunRecord", (7, 3, [], []), {}, ["prime", "mixers", "family", "table", "stages", "opened"]),
+    ("sheets", "Sheet", (7, 3, [], [], []), {}, ["prime", "mixers", "family", "votes", "numbers"]),
+    ("letters", "Setting", (7, 3, [], 1), {}, ["prime", "mixers", "family", "rows"]),
+    ("house", "Election", (), {"options": 3, "mixers": 3, "family": [], "voters": 2},
+     ["options", "mixers", "family", "voters", "prime", "phase", "rankings", "deeds", "record"]),
+]
 
 
 class InterfaceTest(unittest.TestCase):
@@ -206,6 +265,18 @@ class InterfaceTest(unittest.TestCase):
                 with self.subTest(thing=thing, method=method):
                     self.assertIn(method, body)
                     self.assertEqual(str(inspect.signature(body[method])), arguments)
+
+    def test_fields_are_set_when_an_object_is_created(self):
+        for name, thing, given, named, fields in FIELDS:
+            made = getattr(importlib.import_module("veilcount." + name), thing)(*given, **named)
+            self.assertEqual(sorted(vars(made)), sorted(fields))
+
+    def test_each_module_of_the_package_can_be_imported(self):
+        folder = os.path.dirname(importlib.import_module("veilcount").__file__)
+        names = sorted(file[:-3] for file in os.listdir(folder) if file.endswith(".py") and file != "__init__.py")
+        self.assertEqual(names, sorted([*INTERFACE, "copies"]))
+        for name in names:
+            importlib.import_module("veilcount." + name)
 
     def test_veil_error_is_defined_in_its_file(self):
         self.assertEqual(importlib.import_module("veilcount.errors").VeilError.__module__, "veilcount.errors")
