@@ -87,6 +87,12 @@ class MissingTest(unittest.TestCase):
         self.stage.order = [0, 1, 1]
         self.assert_faults([(0, "order", 1, 2)])
 
+    def test_no_row_is_counted_from_the_end(self):
+        self.stage.order = [0, -1]
+        self.assert_faults([(0, "order", 1, 1)])
+        self.stage.order = [-2, 1]
+        self.assert_faults([(0, "order", 1, 0)])
+
     def test_opened_values(self):
         self.record.opened = [3]
         self.assert_faults([(1, "open", None, 1)])
@@ -238,6 +244,11 @@ class NobodyTest(unittest.TestCase):
         record = RunRecord(7, 2, [[0]], [[2, 1]])
         stage = StageRecord([1, 1], [[[2, 0]]], [[3, 1]], [0])
         stage.spread, stage.table = [[[3, 0]], [[1, 0]]], [[4, 0]]
+        record.stages, record.opened = [stage], [4]
+        self.assertNotEqual(faults(record), [])
+        record = RunRecord(7, 2, [[]], [[2, 1]])
+        stage = StageRecord([0, 1, 1], [], [[2, 1, 1]], [0])
+        stage.spread, stage.table = [[[2, 0]], [[0, 1]], [[1, 0]]], [[3, 1]]
         record.stages, record.opened = [stage], [4]
         self.assertNotEqual(faults(record), [])
 

@@ -249,6 +249,7 @@ class FactsTest(unittest.TestCase):
                     alike = [same_links(first, second, one, other, coins) for one, other in pairs]
                     self.assertEqual(alike.count(True), worlds(coins))
                     self.assertEqual(alike.count(True) + alike.count(False), len(pairs))
+                    self.assertIs(same_links(first, second, first, second, coins), True)
 
     def test_same_links(self):
         same, plain = [0, 1, 2], [0, 1, 0]
@@ -263,6 +264,13 @@ class FactsTest(unittest.TestCase):
         self.assertFalse(same_links([0, 1], [0, 1], [1, 0], [0, 1], [0, 0]))
         self.assertFalse(same_links([0, 1], [0, 1], [0, 1], [1, 0], [1, 1]))
         self.assertTrue(same_links([], [], [], [], []))
+
+    def test_links_in_other_words(self):
+        for first, second, one, other in product(orders_of(3), repeat=4):
+            left, right = honest_claims(first, second)
+            other_left, other_right = honest_claims(one, other)
+            alike = left[0] == other_left[0] and right[1:] == other_right[1:]
+            self.assertIs(same_links(first, second, one, other, [0, 1, 1]), alike)
 
 
 class CopiesTest(unittest.TestCase):

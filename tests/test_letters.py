@@ -2,6 +2,7 @@
 
 import unittest
 from itertools import permutations, product
+from unittest.mock import patch
 
 from draws import drawn, numbers_from, parts
 from veilcount.coins import RunCoins, StageCoins
@@ -257,6 +258,26 @@ class RunTest(unittest.TestCase):
         for case in RUNS:
             for pick in (-1, -10 ** 30, 10 ** 30 + 1, 3):
                 self.assert_run(*case, drawn(*case), [pick] * 40)
+
+    def test_the_letters_at_the_places_of_the_picks(self):
+        for case in RUNS:
+            prime, mixers, family, votes = case
+            setting, coins = Setting(prime, mixers, family, len(votes)), drawn(*case)
+            for picks in ([], [7], [-1, 100, 5, 3, -10 ** 30], numbers_from(3, 500)):
+                net = Net(setting, votes, coins)
+                wanted = []
+                for pick in picks + [0] * 500:
+                    if net.bag:
+                        wanted.append(net.deliver(pick % len(net.bag)))
+                delivered = []
+
+                def deliver(net, place, plain=Net.deliver):
+                    delivered.append(plain(net, place))
+                    return delivered[-1]
+
+                with patch.object(Net, "deliver", deliver):
+                    run_letters(setting, votes, coins, picks)
+                self.assertEqual(delivered, wanted)
 
     def test_all_orders_of_the_letters_of_a_small_run(self):
         # Two mixers, one vote, one stage: all ways in which the letters can arrive.

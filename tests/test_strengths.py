@@ -17,6 +17,15 @@ def some_rankings(options, many, seed):
     return [every[number % len(every)] for number in numbers_from(seed, many)]
 
 
+def rankings_with(edges, options):
+    """Rankings with just these wins, all of them by the same number: two rankings for each, else turned around."""
+    rankings = []
+    for one, other in edges:
+        rest = [option for option in range(options) if option not in (one, other)]
+        rankings += [[one, other] + rest, rest[::-1] + [one, other]]
+    return rankings
+
+
 def all_chains(rankings, options, start, end):
     """All chains from an option to another one, with their strengths."""
     table = wins(rankings, options)
@@ -169,6 +178,26 @@ class ChainsTest(unittest.TestCase):
                 self.assertEqual(len(chain), min(len(other) for other in chains))
                 lengths.add(len(chain))
         self.assertGreaterEqual(lengths, {2, 3, 4})
+
+
+    def test_a_shorter_chain_by_another_option(self):
+        # From 0 by 1 to 3 there are three options, and by 2 and 4 there are four.
+        for edges in ([(0, 1), (0, 2), (1, 3), (2, 4), (4, 3)], [(0, 2), (0, 1), (2, 3), (1, 4), (4, 3)]):
+            rankings = rankings_with(edges, 5)
+            self.assertEqual(chain_of(rankings, 5, 0, 3), [0, edges[2][0], 3])
+
+    def test_all_wins_of_five_options_with_the_same_number(self):
+        every = [pair for pair in permutations(range(5), 2) if pair[0] < pair[1]]
+        for seed in range(60):
+            turns = numbers_from(seed, len(every), spread=3)
+            edges = [pair if turn > 0 else pair[::-1] for pair, turn in zip(every, turns) if turn]
+            rankings = rankings_with(edges, 5)
+            self.assertEqual({pair for pair in permutations(range(5), 2) if wins(rankings, 5)[pair[0]][pair[1]]},
+                             set(edges))
+            for start, end in permutations(range(5), 2):
+                lengths = [len(chain) for chain, _ in all_chains(rankings, 5, start, end)]
+                chain = chain_of(rankings, 5, start, end)
+                self.assertEqual(None if chain is None else len(chain), min(lengths, default=None))
 
 
 class CopiesTest(unittest.TestCase):
